@@ -23,11 +23,67 @@ type grows int
 func (grows) Error() string   { return "grows" }
 func (g grows) Unwrap() error { return g + 1 }
 
-// crowd wraps many of itself side by side.
-type crowd struct{}
+// spin is a chain of n links that leads back to its first one, without a Fault.
+func spin(n int) error {
+	first := &link{}
+	at := first
+	for range n - 1 {
+		at.err = &link{}
+		at = at.err.(*link)
+	}
+	at.err = first
+	return first
+}
 
-func (crowd) Error() string   { return "crowd" }
-func (crowd) Unwrap() []error { return slices.Repeat([]error{crowd{}}, 1000) }
+// spinFault is a chain of n links and one Fault that leads back to its first one.
+func spinFault(n int) error {
+	f := &api.Fault{Op: "spin"}
+	err := error(f)
+	for range n {
+		err = &link{err}
+	}
+	f.Err = err
+	return err
+}
+
+type link struct{ err error }
+
+func (*link) Error() string   { return "link" }
+func (l *link) Unwrap() error { return l.err }
+
+// ringList joins itself, and has no ==.
+func ringList() error {
+	l := joins{errors.New("x"), nil}
+	l[1] = l
+	return l
+}
+
+type joins []error
+
+func (joins) Error() string     { return "joins" }
+func (j joins) Unwrap() []error { return j }
+
+// tells wraps an error, and answers errors.As ahead of it.
+type tells struct {
+	says
+	err error
+}
+
+func (t tells) Unwrap() error { return t.err }
+
+// tellsMany wraps several, and answers errors.As ahead of them.
+type tellsMany struct {
+	says
+	joins
+}
+
+func (tellsMany) Error() string { return "" }
+
+// brood joins one more of its kind each time.
+type brood struct{}
+
+func (brood) Error() string   { return "brood" }
+func (brood) Unwrap() []error { return []error{brood{}} }
 
 // bites panics whatever it is asked.
 type bites struct{}
@@ -61,10 +117,10 @@ type plain struct{ err error }
 func (plain) Error() string   { return "plain" }
 func (p plain) Unwrap() error { return p.err }
 
-// list can't be held against another one.
-type list []error
+// heap can't be held against another one.
+type heap []error
 
-func (list) Error() string { return "list" }
+func (heap) Error() string { return "heap" }
 
 // chain is a chain of n Faults above ErrForm, the outmost named n - 1.
 func chain(n int) error {
@@ -140,7 +196,7 @@ func TestNum(t *testing.T) { // 1.1
 		{Wrap("p", "", errors.Join(errors.New("x"), errors.Join(nil, api.ErrBig), a)), api.ErrBig},
 		{errors.Join(errors.New("x"), errors.New("y")), api.ErrArg},
 		{Wrap("p", "", says{api.ErrHeld}), api.ErrHeld},
-		{list{api.ErrBig}, api.ErrArg},
+		{heap{api.ErrBig}, api.ErrArg},
 	} {
 		if n := Num(x.err); n != x.n {
 			t.Errorf("%d: %d, not %d", i, n, x.n)
@@ -248,20 +304,18 @@ func TestAsked(t *testing.T) { // 1.2
 	}
 }
 
-func TestEndless(t *testing.T) { // 1.1, 1.3
+func TestEndless(t *testing.T) { // 1.1, 1.3: Faults that lead back to themselves
 	for i, x := range []struct {
 		err   error
 		depth int
 	}{
 		{ring(), 100},
 		{plain{ring()}, 100},
-		{loop{}, 0},
-		{Wrap("a", "b", loop{}), 1},
-		{grows(0), 0},
-		{Wrap("a", "b", Wrap("c", "d", grows(0))), 2},
+		{Wrap("a", "b", ring()), 100},
+		{plain{spinFault(7)}, 100},
 		{ringJoined(), 1},
-		{Wrap("a", "b", crowd{}), 1},
-		{errors.Join(errors.New("x"), loop{}), 0},
+		{ringList(), 0},
+		{Wrap("a", "b", ringList()), 1},
 	} {
 		if len(Ops(x.err)) != x.depth || len(Names(x.err)) != x.depth || Depth(x.err) != x.depth {
 			t.Errorf("%d: %d, not %d", i, Depth(x.err), x.depth)
@@ -272,6 +326,21 @@ func TestEndless(t *testing.T) { // 1.1, 1.3
 		if s := Text(x.err); strings.Count(s, ": ") != x.depth || !strings.HasSuffix(s, "error 1") {
 			t.Errorf("%d: %q", i, s)
 		}
+	}
+}
+
+func TestEndlessForeign(t *testing.T) { // 1.3: a walk through one of these takes seconds, so each is gone through a few times only
+	for i, x := range []error{loop{}, spin(1000), grows(0), brood{}} {
+		t.Run(fmt.Sprint(i), func(t *testing.T) {
+			t.Parallel()
+			err := Wrap("a", "b", plain{Wrap("c", "", x)})
+			if s := Text(err); s != "a b: c: error 1" {
+				t.Error(s)
+			}
+			if n := Depth(err); n != 2 {
+				t.Error(n)
+			}
+		})
 	}
 }
 
@@ -288,7 +357,7 @@ func TestNoPanic(t *testing.T) { // 1.3
 		{bitesMany{}, "error 1"},
 		{Wrap("a", "b", errors.Join(bitesMany{})), "a b: error 1"},
 		{errors.Join(bites{}, bites{}), "error 1"},
-		{Wrap("a", "b", list{nil}), "a b: error 1"},
+		{Wrap("a", "b", heap{nil}), "a b: error 1"},
 		{struct{ error }{}, "error 1"},
 	} {
 		if s := Text(x.err); s != x.text {
@@ -300,13 +369,68 @@ func TestNoPanic(t *testing.T) { // 1.3
 	}
 }
 
-func TestDeepJoined(t *testing.T) { // 1.3: more than errors.As has room for
-	err := error(api.ErrBig)
-	for range 1 << 23 {
-		err = errors.Join(err)
+func TestDeep(t *testing.T) { // 1.1, 1.2: the number is found however much lies above it
+	layers := []func(error) error{
+		func(e error) error { return Wrap("o", "", e) },
+		func(e error) error { return plain{e} },
+		func(e error) error { return &link{e} },
+		func(e error) error { return joins{e} },
+		func(e error) error { return errors.Join(e) },
+		func(e error) error { return Wrap("o", "", errors.Join(errors.New("x"), e)) },
 	}
-	if Num(err) != api.ErrArg || Depth(err) != 0 {
-		t.Error(Num(err), Depth(err))
+	for i, over := range layers {
+		t.Run(fmt.Sprint(i), func(t *testing.T) {
+			t.Parallel()
+			err, have := error(api.ErrFull), 0
+			for _, n := range []int{1 << 20, 3 << 20} { // errors.As has no room for joined errors so deep
+				for ; have < n; have++ {
+					err = over(err)
+				}
+				if s := Text(err); !strings.HasSuffix(s, "error 15") {
+					t.Errorf("%d layers: %q", n, s)
+				}
+			}
+		})
+	}
+}
+
+func TestDeepDepth(t *testing.T) { // a chain that ends is counted whole
+	err := New("o", "", api.ErrFull)
+	for range 1<<21 - 1 {
+		err = Wrap("o", "", err)
+	}
+	if n := Depth(err); n != 1<<21 {
+		t.Error(n)
+	}
+	if len(Ops(err)) != 100 || len(Names(err)) != 100 {
+		t.Error(len(Ops(err)), len(Names(err)))
+	}
+}
+
+func TestFoundAhead(t *testing.T) { // 1.1: what errors.As comes to first
+	pair := joins{errors.New("x"), api.ErrBig}
+	twice := error(errors.Join(errors.New("x")))
+	for range 100 { // each of the last ones would be come to 2^100 times
+		twice = errors.Join(twice, twice)
+	}
+	for i, x := range []struct {
+		err error
+		n   api.Errno
+	}{
+		{tells{says{api.ErrHeld}, api.ErrBig}, api.ErrHeld},
+		{Wrap("a", "", tells{says{api.ErrHeld}, loop{}}), api.ErrHeld},
+		{tellsMany{says{api.ErrHeld}, joins{api.ErrBig}}, api.ErrHeld},
+		{joins{tells{says{api.ErrHeld}, nil}, api.ErrBig}, api.ErrHeld},
+		{joins{bites{}, api.ErrBig}, api.ErrBig},
+		{joins{pair[:1], pair}, api.ErrBig},
+		{joins{nil, Wrap("a", "", joins{}), joins{plain{api.ErrDir}, api.ErrNone}, api.ErrBig}, api.ErrDir},
+		{joins{ring(), spinFault(3), ringList(), api.ErrBig}, api.ErrBig},
+		{errors.Join(twice, api.ErrBig), api.ErrBig},
+		{twice, api.ErrArg},
+	} {
+		if n := Num(x.err); n != x.n {
+			t.Errorf("%d: %d, not %d", i, n, x.n)
+		}
 	}
 }
 
