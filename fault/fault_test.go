@@ -380,7 +380,6 @@ func TestDeep(t *testing.T) { // 1.1, 1.2: the number is found however much lies
 	}
 	for i, over := range layers {
 		t.Run(fmt.Sprint(i), func(t *testing.T) {
-			t.Parallel()
 			err, have := error(api.ErrFull), 0
 			for _, n := range []int{1 << 20, 3 << 20} { // errors.As has no room for joined errors so deep
 				for ; have < n; have++ {
