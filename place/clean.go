@@ -14,31 +14,6 @@ func join(l []api.Range, a api.Range) []api.Range {
 	return l
 }
 
-// find is the least place in the clean list l from which on size bytes lie within one range.
-func find(l []api.Range, size int) (int, bool) {
-	if size < 0 {
-		return 0, false
-	}
-	for _, a := range l {
-		if at := up(a.From); held(size) <= a.To-at {
-			return at, true
-		}
-	}
-	return 0, false
-}
-
-// take is the clean list l without the bytes of r.
-func take(l []api.Range, r api.Range) []api.Range {
-	if empty(r) {
-		return l
-	}
-	var left []api.Range
-	for _, a := range l {
-		left = rest(left, a, r)
-	}
-	return left
-}
-
 // rest is left with what r leaves of a behind it; neither a nor r is empty.
 func rest(left []api.Range, a, r api.Range) []api.Range {
 	switch {

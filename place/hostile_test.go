@@ -42,8 +42,11 @@ func (m memory) ranges() []api.Range {
 	return l
 }
 
-// find tries place behind place, and holds each byte against the memory.
+// find tries place behind place, and holds each byte against the memory; of one that 32 ranges do not tell it finds none.
 func (m memory) find(size int) (int, bool) {
+	if len(m.ranges()) > 32 {
+		return 0, false
+	}
 	for at := 0; size >= 0 && at+max(size, 1) <= len(m); at += 16 {
 		if !slices.Contains(m[at:at+max(size, 1)], false) {
 			return at, true
@@ -61,11 +64,16 @@ func (m memory) all(sizes []int) ([]int, bool) {
 			return nil, false
 		}
 		places = append(places, at)
-		for i := at; i < at+max(size, 1) || i%16 != 0; i++ {
-			m[i] = false
-		}
+		m.take(at, size)
 	}
 	return places, true
+}
+
+// take makes size bytes from at on not free, and those up to the next multiple of 16.
+func (m *memory) take(at, size int) {
+	for i := at; i < at+max(size, 1) || i%16 != 0; i++ {
+		m[i] = false
+	}
 }
 
 // few makes a list of ranges in a memory; one in some has a range that is wrong.
@@ -303,10 +311,49 @@ func full(r *rand.Rand) []api.Range {
 	return l
 }
 
+// steps is All by its own words: of each size Find, in what Take leaves when those ahead are taken.
+func steps(free []api.Range, sizes []int) ([]int, bool) {
+	var places []int
+	for _, size := range sizes {
+		at, ok := Find(free, size)
+		if !ok || len(sizes) > 16 {
+			return nil, false
+		}
+		places = append(places, at)
+		free = Take(free, api.Range{From: at, To: (at + max(size, 1) + 15) &^ 15})
+	}
+	return places, true
+}
+
+// TestSteps holds All against Find and Take, one behind the other.
+func TestSteps(t *testing.T) { // 18.1
+	r := rand.New(rand.NewSource(25))
+	for range 60000 {
+		free := raw(r)
+		switch r.Intn(4) {
+		case 0:
+			free = few(r)
+		case 1:
+			free = full(r)
+		}
+		sizes := make([]int, r.Intn(6))
+		for i := range sizes {
+			sizes[i] = r.Intn(50) - 1
+			if r.Intn(4) == 0 {
+				sizes[i] = number(r)
+			}
+		}
+		want, found := steps(free, sizes)
+		if at, ok := All(free, sizes); !slices.Equal(at, want) || ok != found {
+			t.Fatal(free, sizes, at, ok)
+		}
+	}
+}
+
 // TestFull places in 32 ranges, one of which may be parted again and again.
 func TestFull(t *testing.T) { // 18.1, 18.2
 	r := rand.New(rand.NewSource(24))
-	parted, none := 0, 0
+	parted, none, most := 0, 0, 0
 	for range 20000 {
 		free := full(r)
 		if !Ok(free) || !slices.Equal(Clean(free), free) {
@@ -323,20 +370,23 @@ func TestFull(t *testing.T) { // 18.1, 18.2
 		if !slices.Equal(places, want) || ok != found {
 			t.Fatal(free, sizes, places, ok)
 		}
-		if !ok {
-			none++
-			continue
-		}
-		for i, at := range places {
-			for b := at; b < at+max(sizes[i], 1) || b%16 != 0; b++ {
-				m[b] = false
+		left := told(free)
+		for i, size := range sizes {
+			if n := len(left.ranges()); n > 32 {
+				parted++ // from here on nothing is found
+				break
+			} else if i > 0 && n == 32 {
+				most++
 			}
-			if len(m.ranges()) > 32 && i+1 < len(places) {
-				parted++
+			at, ok := left.find(size)
+			if !ok {
+				none++
+				break
 			}
+			left.take(at, size)
 		}
 	}
-	if parted < 1000 || none < 1000 {
-		t.Error("few of a kind were met:", parted, none)
+	if parted < 1000 || none < 1000 || most < 1000 {
+		t.Error("few of a kind were met:", parted, none, most)
 	}
 }

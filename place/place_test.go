@@ -247,28 +247,48 @@ func TestAll(t *testing.T) { // 18.1
 	}
 }
 
-// TestAllFromMany places in 32 ranges, each of which is parted by what is placed in it: what is left is of more ranges
-// than may be handed in, and its bytes are free as they were.
-func TestAllFromMany(t *testing.T) { // 18.1, 18.2
-	free := parted(32, 3, 90, 6)
-	if at, ok := All(free, []int{20, 4}); !ok || !slices.Equal(at, []int{16, 48}) {
-		t.Error(at, ok)
-	}
-	at, ok := All(free, slices.Repeat([]int{60}, 16))
-	if !ok || len(at) != 16 {
-		t.Fatal(at, ok)
-	}
-	for i, a := range at {
-		if want := up(free[i].From); a != want {
-			t.Error(i, a)
+// TestAllFromMany places in as many ranges as are Ok, or one fewer: when what is placed parts one of them, what is left is
+// of one range more, and in 33 ranges nothing is found.
+func TestAllFromMany(t *testing.T) { // 18.1
+	for i, x := range []struct {
+		n     int
+		sizes []int
+		want  []int // none: false
+	}{
+		{32, []int{20}, []int{16}}, {32, []int{0}, []int{16}}, // 33 ranges are left, and nobody asks for one in them
+		{32, []int{20, 4}, nil}, {32, []int{0, 0}, nil}, {32, []int{20, 20, 20}, nil}, {32, []int{20, 60}, nil},
+		{32, []int{77, 4}, []int{16, 112}},                               // nothing is left behind the first: 32 ranges
+		{32, []int{65, 77, 4}, []int{16, 112, 208}},                      // as much is taken of 65 bytes
+		{32, []int{64}, []int{16}},                                       // of 64 bytes 13 are left behind it
+		{32, []int{64, 4}, nil},                                          //
+		{32, []int{77, 77, 77, 5}, []int{16, 112, 208, 304}},             // a later one parts its range
+		{32, []int{77, 77, 77, 5, 5}, nil},                               //
+		{32, slices.Repeat([]int{77}, 16), multiples(16, 96)},            // 32 ranges all along
+		{32, append(slices.Repeat([]int{77}, 15), 1), multiples(16, 96)}, // the last of 16 sizes parts the 16th range
+		{31, []int{20, 4}, []int{16, 48}},                                // the second begins where the piece behind does
+		{31, []int{20, 45, 4}, []int{16, 48, 112}},                       // and leaves nothing behind it
+		{31, []int{20, 60}, []int{16, 112}},                              // the second parts another range: 33 are left
+		{31, []int{20, 60, 4}, nil},                                      //
+		{30, slices.Repeat([]int{60}, 3), []int{16, 112, 208}},           //
+		{30, append(slices.Repeat([]int{60}, 3), 1), nil},                //
+		{17, slices.Repeat([]int{60}, 16), multiples(16, 96)},            // 33 ranges behind the last
+		{18, slices.Repeat([]int{60}, 15), multiples(15, 96)},            // 33 ranges behind the last
+		{18, slices.Repeat([]int{60}, 16), nil},                          //
+	} {
+		at, ok := All(parted(x.n, 3, 90, 6), x.sizes)
+		if ok != (x.want != nil) || !slices.Equal(at, x.want) {
+			t.Error(i, at, ok)
 		}
 	}
-	for i := range at[1:] { // what is left behind the first place is found too
-		sizes := append(slices.Repeat([]int{60}, i+1), 4)
-		if got, ok := All(free, sizes); !ok || !slices.Equal(got, append(slices.Clone(at[:i+1]), 80)) {
-			t.Error(i, got, ok)
-		}
+}
+
+// multiples are n places, the first 16, each far bytes behind the one ahead of it.
+func multiples(n, far int) []int {
+	var l []int
+	for i := range n {
+		l = append(l, 16+i*far)
 	}
+	return l
 }
 
 // TestNewMemory writes over what is handed in and what is answered, and over their spare rooms.
